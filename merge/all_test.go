@@ -252,8 +252,8 @@ func mergedOf(l []api.Module, keep []string) (api.Module, api.Errno) {
 // someKeep are names to be kept.
 func (r *random) someKeep() []string {
 	var keep []string
-	for r.below(3) == 0 {
-		keep = append(keep, named[r.below(len(named))])
+	for r.Below(3) == 0 {
+		keep = append(keep, named[r.Below(len(named))])
 	}
 	return keep
 }
@@ -262,7 +262,7 @@ func (r *random) someKeep() []string {
 func TestAllRandom(t *testing.T) {
 	met := map[api.Errno]int{}
 	for start := range 12000 {
-		r := random(start)
+		r := randomFrom(start)
 		l, keep := r.someModules(), r.someKeep()
 		want, e := mergedOf(l, keep)
 		met[e]++

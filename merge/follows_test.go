@@ -85,7 +85,7 @@ func expectMeant(t *testing.T, why string, l []api.Module, m api.Module) (local,
 func TestFollowsMeant(t *testing.T) {
 	merged, local, missing := 0, 0, 0
 	for start := range 10000 {
-		r := random(start + 1<<40)
+		r := randomFrom(start + 1<<40)
 		l := r.someModules()
 		m, e := merge.All(l, nil)
 		if e != api.OK {
@@ -132,14 +132,14 @@ func expectRuns(t *testing.T, why string, a, b api.Module) (ended, wrote int) {
 func TestFollowsAlone(t *testing.T) {
 	ended, wrote, local := 0, 0, 0
 	for start := range 2000 {
-		r := random(start)
-		m := r.wholeModule()
+		r := randomFrom(start)
+		m := r.Whole()
 		if e := eval.Whole(m); e != api.OK {
 			t.Fatalf("row %d: the test's module isn't whole: %d", start, e)
 		}
 		keep := []string{"main"}
 		for _, d := range definitions(t, m) {
-			if d.Here && r.below(2) == 0 {
+			if d.Here && r.Below(2) == 0 {
 				keep = append(keep, d.Name)
 			}
 		}
@@ -172,12 +172,12 @@ func (r *random) apart(m api.Module, many int) (l []api.Module, local int) {
 	l = make([]api.Module, many)
 	home := map[string]int{}
 	for _, f := range m.Funcs {
-		home[f.Name] = r.below(many)
+		home[f.Name] = r.Below(many)
 		f.Bind = r.shared(len(f.Blocks) > 0)
 		l[home[f.Name]].Funcs = append(l[home[f.Name]].Funcs, f)
 	}
 	for _, g := range m.Globs {
-		home[g.Name] = r.below(many)
+		home[g.Name] = r.Below(many)
 		g.Bind = r.shared(g.Here)
 		l[home[g.Name]].Globs = append(l[home[g.Name]].Globs, g)
 	}
@@ -204,7 +204,7 @@ func (r *random) apart(m api.Module, many int) (l []api.Module, local int) {
 
 // shared is a Bind that isn't local: of what isn't here a weak one.
 func (r *random) shared(here bool) int {
-	if here && r.below(2) == 0 {
+	if here && r.Below(2) == 0 {
 		return api.BStrong
 	}
 	return api.BWeak
@@ -229,12 +229,12 @@ func namesIn(m api.Module) []string {
 func (r *random) declare(to *api.Module, whole api.Module, name string) {
 	for _, f := range whole.Funcs {
 		if f.Name == name {
-			to.Funcs = append(to.Funcs, api.Func{Name: name, Bind: 2 + r.below(2), Params: f.Params})
+			to.Funcs = append(to.Funcs, api.Func{Name: name, Bind: 2 + r.Below(2), Params: f.Params})
 		}
 	}
 	for _, g := range whole.Globs {
 		if g.Name == name {
-			to.Globs = append(to.Globs, api.Glob{Name: name, Bind: 2 + r.below(2)})
+			to.Globs = append(to.Globs, api.Glob{Name: name, Bind: 2 + r.Below(2)})
 		}
 	}
 }
@@ -257,9 +257,9 @@ func hidden(m api.Module, name string) api.Module {
 func TestFollowsApart(t *testing.T) {
 	ended, wrote, local, met := 0, 0, 0, 0
 	for start := range 3000 {
-		r := random(start + 1<<41)
-		m := r.wholeModule()
-		l, n := r.apart(m, 1+r.below(5))
+		r := randomFrom(start + 1<<41)
+		m := r.Whole()
+		l, n := r.apart(m, 1+r.Below(5))
 		out, e := merge.All(l, nil)
 		why := fmt.Sprint("row ", start)
 		if e != api.OK || len(out.Funcs) != len(m.Funcs) || len(out.Globs) != len(m.Globs) {

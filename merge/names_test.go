@@ -143,7 +143,7 @@ func namesOf(l []api.Module) []map[string]string {
 func TestNamesRandom(t *testing.T) {
 	given, looks := 0, 0
 	for start := range 5000 {
-		r := random(start)
+		r := randomFrom(start)
 		l := r.someModules()
 		want := namesOf(l)
 		expectNames(t, fmt.Sprint("row ", start), l, want)

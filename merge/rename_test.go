@@ -9,6 +9,7 @@ import (
 
 	"marline/api"
 	"marline/merge"
+	"marline/sample"
 )
 
 // copiedFunc is a function that shares no memory with f.
@@ -52,7 +53,7 @@ func expectRename(t *testing.T, why string, f api.Func, names map[string]string,
 		if told(got) != told(want) {
 			t.Errorf("%.300s: Rename answers\n%.700s, not\n%.700s: %.700s", why, told(got), told(want), before)
 		}
-		scribbleFunc(got)
+		sample.ScribbleFunc(got)
 	}
 	if told(f) != before || !maps.Equal(names, named) {
 		t.Errorf("%.300s: Rename wrote into what it was handed", why)
@@ -155,11 +156,11 @@ func TestRenameNothing(t *testing.T) {
 func TestRenameRandom(t *testing.T) {
 	changed := 0
 	for start := range 3000 {
-		r := random(start)
-		m := r.wholeModule()
+		r := randomFrom(start)
+		m := r.Whole()
 		names := map[string]string{}
-		for range r.below(5) {
-			names[r.oneOf("main", "f0", "f1", "g0", "g1", "", "away")] = r.oneOf("main", "f0", "g0", ".0", "x")
+		for range r.Below(5) {
+			names[r.OneOf("main", "f0", "f1", "g0", "g1", "", "away")] = r.OneOf("main", "f0", "g0", ".0", "x")
 		}
 		for _, f := range m.Funcs {
 			want := otherwise(f, names)

@@ -4,6 +4,7 @@ import (
 	"slices"
 
 	"marline/api"
+	"marline/own"
 )
 
 // place is where a module stands: in which file, and which of its modules it is.
@@ -32,7 +33,7 @@ func begun(l []api.File) picked {
 // take takes the module that stands there.
 func (p *picked) take(at place) {
 	p.taken[at] = struct{}{}
-	p.row = append(p.row, copied(p.files[at.file].Mods[at.mod]))
+	p.row = append(p.row, own.Module(p.files[at.file].Mods[at.mod]))
 }
 
 // search takes modules till none is left that is wanted.

@@ -1,0 +1,42 @@
+// Package own makes copies that share no memory with what they were made of: whoever has the one may write into it. All layers that answer modules, or parts of them, lean on it.
+package own
+
+import (
+	"slices"
+
+	"marline/api"
+)
+
+// Module is a copy of a module.
+func Module(m api.Module) api.Module {
+	return api.Module{Funcs: each(m.Funcs, Func), Globs: slices.Clone(m.Globs)}
+}
+
+// Func is a copy of a function.
+func Func(f api.Func) api.Func {
+	f.Blocks = each(f.Blocks, Block)
+	return f
+}
+
+// Block is a copy of a block.
+func Block(b api.Block) api.Block {
+	b.Ins = each(b.Ins, inst)
+	b.End.Args = slices.Clone(b.End.Args)
+	b.End.Elses = slices.Clone(b.End.Elses)
+	return b
+}
+
+// inst is a copy of an instruction.
+func inst(i api.Inst) api.Inst {
+	i.Args = slices.Clone(i.Args)
+	return i
+}
+
+// each is a list of copies.
+func each[T any](l []T, one func(T) T) []T {
+	l = slices.Clone(l)
+	for at := range l {
+		l[at] = one(l[at])
+	}
+	return l
+}
