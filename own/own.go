@@ -9,18 +9,18 @@ import (
 
 // Module is a copy of a module.
 func Module(m api.Module) api.Module {
-	return api.Module{Funcs: each(m.Funcs, Func), Globs: slices.Clone(m.Globs)}
+	return api.Module{Funcs: Each(m.Funcs, Func), Globs: slices.Clone(m.Globs)}
 }
 
 // Func is a copy of a function.
 func Func(f api.Func) api.Func {
-	f.Blocks = each(f.Blocks, Block)
+	f.Blocks = Each(f.Blocks, Block)
 	return f
 }
 
 // Block is a copy of a block.
 func Block(b api.Block) api.Block {
-	b.Ins = each(b.Ins, inst)
+	b.Ins = Each(b.Ins, inst)
 	b.End.Args = slices.Clone(b.End.Args)
 	b.End.Elses = slices.Clone(b.End.Elses)
 	return b
@@ -32,8 +32,8 @@ func inst(i api.Inst) api.Inst {
 	return i
 }
 
-// each is a list of copies.
-func each[T any](l []T, one func(T) T) []T {
+// Each is a list, in memory of its own, of what becomes of each in another one.
+func Each[T any](l []T, one func(T) T) []T {
 	l = slices.Clone(l)
 	for at := range l {
 		l[at] = one(l[at])

@@ -9,6 +9,7 @@ import (
 	"marline/eval"
 	"marline/ir"
 	"marline/reach"
+	"marline/sample"
 )
 
 // hide makes most functions and globals of a module local, some weak, so that more of them are dropped; main stays as it is, or is local, too.
@@ -80,27 +81,20 @@ func TestFollowsNames(t *testing.T) {
 	}
 }
 
-// inputs are some texts that are read.
-var inputs = []string{"", "a", "\x00\xffmany bytes of input"}
-
 // expectRuns: two modules do the same, with any fuel and so many calls open; it answers how many runs ended, and how many wrote.
 func expectRuns(t *testing.T, why string, a, b api.Module) (ended, wrote int) {
 	t.Helper()
-	for _, in := range inputs {
-		for _, fuel := range []int{0, 1, 2, 3, 4, 5, 6, 7, 9, 12, 17, 26, 40, 80, 2000} {
-			for _, deep := range []int{1, 2, 20} {
-				x, e := eval.Run(a, in, fuel, deep)
-				y, is := eval.Run(b, in, fuel, deep)
-				if x != y || e != is {
-					t.Errorf("%s, %q, fuel %d, deep %d: it runs as %+v, %d, not %+v, %d", why, in, fuel, deep, y, is, x, e)
-				}
-				if y.Ended {
-					ended++
-				}
-				if y.Out != "" {
-					wrote++
-				}
-			}
+	runs := sample.Runs(b)
+	for at, want := range sample.Runs(a) {
+		x := runs[at]
+		if x != want {
+			t.Errorf("%s: it runs as %+v, not %+v", why, x, want)
+		}
+		if x.Trace.Ended {
+			ended++
+		}
+		if x.Trace.Out != "" {
+			wrote++
 		}
 	}
 	return ended, wrote
